@@ -1,0 +1,1 @@
+"""Calmring: small machines that come to rest from any state."""
