@@ -1,6 +1,7 @@
 """What is asked of every rule alike, held against any rule that is handed in."""
 
 import itertools
+import random
 
 from calmring.errors import BadState, BadTurn, NoMeasure
 from calmring.nets import Net, line, ring
@@ -38,6 +39,11 @@ def small_nets(greatest):
 
 def states(rule):
     return [list(cells) for cells in itertools.product(range(rule.span), repeat=rule.size)]
+
+
+def drawn_states(rule, count):
+    draw = random.Random(5)
+    return [[draw.randrange(rule.span) for at in range(rule.size)] for turn in range(count)]
 
 
 def sets_of(things):

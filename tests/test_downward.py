@@ -7,7 +7,7 @@ from calmring.nets import Net, line, ring
 from calmring.rules import Rule
 from promises import (
     GREAT, NINES, check_bad_turns, check_dues, check_every_state, check_falling, check_lists, check_own,
-    check_reach_holds, check_reading, kite, mixed, small_nets, sets_of, star, states, whole)
+    check_reach_holds, check_reading, drawn_states, kite, mixed, small_nets, sets_of, star, states, whole)
 
 PATH = [0, 1, 2, 3]
 STAR = [0, 0, 0, 0]
@@ -45,11 +45,6 @@ def reach_by_hand(rule, spoiled):
         if more == found:
             return sorted(found)
         found = more
-
-
-def drawn_states(rule, count):
-    draw = random.Random(5)
-    return [[draw.randrange(rule.span) for at in range(rule.size)] for turn in range(count)]
 
 
 class WeightRule(DownRule):

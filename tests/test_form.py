@@ -162,9 +162,71 @@ def names_known(tree):
     return known
 
 
+WALKED = ["zip", "enumerate", "reversed", "range"]
+WALKED_METHODS = ["items", "keys", "values"]
+WALKERS = ["list", "tuple", "dict", "sorted", "sum", "any", "all", "enumerate", "zip"]
+KEYWORDS = {"sorted": ["key", "reverse"], "min": ["key", "default"], "max": ["key", "default"], "sum": ["start"],
+            "enumerate": ["start"], "zip": ["strict"]}
+
+
+def called(node):
+    return node.func.id if isinstance(node, ast.Call) and isinstance(node.func, ast.Name) else None
+
+
+def is_walked_at_once(node, parent):
+    if isinstance(parent, (ast.For, ast.comprehension)):
+        return parent.iter is node
+    if called(parent) in WALKERS:
+        return parent.args[0] is node
+    if called(parent) in ("min", "max"):
+        return len(parent.args) == 1
+    return isinstance(parent, ast.Call) and isinstance(parent.func, ast.Attribute) and parent.func.attr == "join"
+
+
+def is_set_on_the_spot(node, parents):
+    parent = parents[node]
+    while isinstance(parent, ast.BinOp) and isinstance(parent.op, (ast.Sub, ast.BitAnd, ast.BitOr, ast.BitXor)):
+        parent = parents[parent]
+    if isinstance(parent, ast.Compare):
+        return all(isinstance(op, (ast.In, ast.NotIn, ast.Eq, ast.NotEq)) for op in parent.ops)
+    return called(parent) in ("sorted", "len") and not parent.keywords
+
+
+def uses(tree):
+    """What is seen only by what stands around a thing."""
+    parents = {inner: outer for outer in ast.walk(tree) for inner in ast.iter_child_nodes(outer)}
+    drawn = [alias.asname or alias.name for node in tree.body if isinstance(node, ast.ImportFrom) for alias in node.names]
+    drawn += [node.name for node in tree.body if isinstance(node, ast.ClassDef)]
+    for node in ast.walk(tree):
+        if isinstance(node, ast.Call):
+            method = node.func.attr if isinstance(node.func, ast.Attribute) else None
+            if (called(node) in WALKED or method in WALKED_METHODS) and not is_walked_at_once(node, parents[node]):
+                yield node.lineno, "L23: not walked at once"
+            if called(node) in ("set", "frozenset") and not is_set_on_the_spot(node, parents):
+                yield node.lineno, "L24: a set that is kept or walked"
+            if called(node) in OWN_NAMES and not all(one.arg in KEYWORDS.get(called(node), []) for one in node.keywords):
+                yield node.lineno, "L22: a keyword"
+        if isinstance(node, ast.Set) and not is_set_on_the_spot(node, parents):
+            yield node.lineno, "L24: a set that is kept or walked"
+        if isinstance(node, ast.Name) and isinstance(node.ctx, ast.Store) and node.id in drawn:
+            yield node.lineno, f"L15: {node.id} is a class or an import"
+        if isinstance(node, ast.arg) and node.arg in drawn:
+            yield node.lineno, f"L15: {node.arg} is a class or an import"
+        if isinstance(node, ast.arg) and node.annotation or isinstance(node, ast.FunctionDef) and node.returns:
+            yield node.lineno, "L21: an annotation"
+        if isinstance(node, ast.Name) and node.id in OWN_NAMES and not is_own_name_called(node, parents[node]):
+            yield node.lineno, f"L22: {node.id} is not called"
+
+
+def is_own_name_called(node, parent):
+    if isinstance(parent, ast.Call):
+        return parent.func is node or called(parent) == "isinstance"
+    return isinstance(parent, (ast.ClassDef, ast.ExceptHandler, ast.Raise, ast.Tuple, ast.keyword))
+
+
 def faults(text):
     tree = ast.parse(text)
-    found = list(signs(text)) + list(top(tree))
+    found = list(signs(text)) + list(top(tree)) + list(uses(tree))
     known = names_known(tree)
     for node in ast.walk(tree):
         said = []
@@ -251,6 +313,12 @@ class FaultsTest(unittest.TestCase):
         "def f(n):\n    return [a for a in n for b in a]\n", "def f(n):\n    while n:\n        pass\n    else:\n        pass\n",
         "def f(n):\n    try:\n        pass\n    except:\n        pass\n", "def f(n):\n    with n:\n        pass\n",
         "class A:\n    x = 1\n", "class A(B, C):\n    pass\n", "@f\ndef g():\n    pass\n", "x = '%'\n", "# the type\n",
+        "def f(n):\n    k = range(n)\n    return list(k)\n", "def f(n):\n    return list(reversed(range(n)))\n",
+        "def f(d):\n    return d.items()\n", "def f(n):\n    k = set(n)\n    return k\n",
+        "def f(n):\n    return [k for k in set(n)]\n", "def f(n):\n    return {1, n}\n", "def f(n: int):\n    return n\n",
+        "def f(n):\n    return list(n, key=len)\n", "def f(n):\n    k = len\n    return k(n)\n",
+        "from calmring.errors import BadNet\n\n\ndef f(BadNet):\n    return BadNet\n",
+        "class A:\n    pass\n\n\ndef f(n):\n    A = n\n    return A\n",
         "x = 1  # \u00e9\n", "x = 1\t\n", "x = '" + "a" * 120 + "'\n", "def f():\n" + "    pass\n" * 40, "\n" * 401,
     ]
 
@@ -262,6 +330,10 @@ class FaultsTest(unittest.TestCase):
     def test_a_right_text_has_none(self):
         right = '"""Words."""\n\nTEN = 10\n\n\ndef f(n):\n    return [k * TEN for k in range(n) if k != 3]\n'
         self.assertEqual(faults(right), [])
+        for line in ("return list(reversed(n))", "return len(set(n)) == 2", "return sorted(set(n) - set(n))",
+                     "return max(n, default=None)", "return sum([a for a, b in zip(n, n)])", "return 3 in set(n)",
+                     "return isinstance(n, (int, str))"):
+            self.assertEqual(faults("def f(n):\n    " + line + "\n"), [])
 
 
 if __name__ == "__main__":

@@ -7,7 +7,7 @@ from calmring.nets import Net, far_from, line, ring
 from calmring.rules import Rule
 from promises import (
     GREAT, NINES, check_bad_turns, check_dues, check_every_state, check_falling, check_lists, check_own,
-    check_reach_all, check_reading, kite, mixed, small_nets, star, states, whole)
+    check_reach_all, check_reading, drawn_states, kite, mixed, small_nets, star, states, whole)
 
 NETS = small_nets(4) + [line(10), ring(10), star(10), whole(10), mixed()]
 
@@ -47,11 +47,6 @@ def small_leasts():
                            [top - 1] * net.size, [None] * (net.size - 1) + [top // 2]):
                 found.append((net, starts, stretch, blocks))
     return found
-
-
-def drawn_states(rule, count):
-    draw = random.Random(13)
-    return [[draw.randrange(rule.span) for at in range(rule.size)] for turn in range(count)]
 
 
 def check_rest(test, rule, right):
