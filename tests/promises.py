@@ -3,8 +3,14 @@
 import itertools
 import random
 
+from calmring.downward import CountRule, PaintRule
 from calmring.errors import BadState, BadTurn, NoMeasure
+from calmring.growing import GrowRule
+from calmring.leasts import FarRule, LeadRule, LeastRule
 from calmring.nets import Net, line, ring
+from calmring.passing import PassRule
+from calmring.rules import Rule
+from calmring.tables import TableRule
 
 GREAT = 10 ** 59
 NINES = 10 ** 60 - 1
@@ -55,6 +61,34 @@ def turns_of(rule, cells):
     """What the hand can name so that somebody does something."""
     movers = rule.movers(cells)
     return [[at] for at in movers] if rule.alone else sets_of(movers)
+
+
+def small_rules():
+    """At least one rule of each kind, alone and not, with a measure and without."""
+    copy_left = [0, 0, 1, 1, 0, 0, 1, 1]
+    flip = [1, 1, 1, 1, 0, 0, 0, 0]
+    return [
+        Rule(3, 5, False), Rule(2, 3, True), PassRule(2, 2), PassRule(3, 4), PassRule(6, 7), PaintRule(line(1)),
+        PaintRule(kite()), PaintRule(ring(6)), CountRule([]), CountRule([0, 0, 1, 1]),
+        LeastRule(kite(), [None, 3, 0, None], 3, 2), FarRule(line(1), 0), FarRule(kite(), 2), FarRule(ring(5), 3),
+        LeadRule(line(3), [2, 9, 0]), LeadRule(kite(), [4, 0, 1, 2]), GrowRule(line(2), 1), GrowRule(kite(), 3),
+        TableRule(2, 2, "none", copy_left, copy_left), TableRule(3, 2, "one", flip, copy_left)]
+
+
+def drawn_registers(draw, rule):
+    """A state of whole numbers of up to sixty figures either way."""
+    greatest = draw.choice([0, rule.span - 1, 2 * rule.span, NINES])
+    return [draw.randint(-greatest, greatest) for at in range(rule.size)]
+
+
+def drawn_turn(draw, rule):
+    """Any turn that is not refused, in any order."""
+    count = draw.randint(0, 1 if rule.alone else rule.size)
+    return draw.sample(range(rule.size), count)
+
+
+def drawn_turns(draw, rule, count):
+    return [drawn_turn(draw, rule) for turn in range(count)]
 
 
 def is_whole(number):
@@ -129,20 +163,32 @@ def check_reading(test, rule):
 
 def check_own(test, tell, *handed):
     """Point 2 of one call: what is handed in stays, and what is told is the asker's own."""
-    kept = [list(one) if isinstance(one, list) else one for one in handed]
+    kept = copied(handed)
     first = tell(*handed)
     told = copied(first)
-    test.assertEqual(list(handed), kept)
-    spoil(first)
-    test.assertEqual(list(handed), kept)
+    test.assertEqual(handed, kept)
+    spoil_lists(first)
+    test.assertEqual(handed, kept)
     again = tell(*handed)
     test.assertEqual(again, told)
-    for one in handed:
-        if isinstance(one, list):
-            one.append(99)
-            one[0] = -7
+    spoil_lists(handed)
     test.assertEqual(again, told)
     test.assertEqual(tell(*kept), told)
+    check_no_list_twice(test, again)
+
+
+def check_no_list_twice(test, told):
+    """No list that is told stands in two places of it."""
+    lists = lists_in(told)
+    test.assertEqual(len({id(one) for one in lists}), len(lists))
+
+
+def lists_in(told):
+    found = [told] if isinstance(told, list) else []
+    if isinstance(told, (list, tuple)):
+        for one in told:
+            found += lists_in(one)
+    return found
 
 
 def copied(told):
@@ -151,10 +197,10 @@ def copied(told):
     return told
 
 
-def spoil(told):
+def spoil_lists(told):
     if isinstance(told, (list, tuple)):
         for one in told:
-            spoil(one)
+            spoil_lists(one)
     if isinstance(told, list):
         told.append(77)
         told[0] = -5

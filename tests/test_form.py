@@ -272,6 +272,19 @@ class FormTest(unittest.TestCase):
         methods, values = members(self.trees().values())
         self.assertEqual(methods & values, set())
 
+    def test_no_method_or_value_is_called_like_one_of_pythons_own(self):
+        own = {name for kind in (str, int, list, dict, set, tuple, bytes) for name in dir(kind)} - set(DUNDERS)
+        methods, values = members(self.trees().values())
+        self.assertEqual((methods | values) & own, set())
+
+    def test_no_error_is_taken(self):
+        # So nothing of L19 but the raising has to be looked at.
+        for name, tree in self.trees().items():
+            self.assertFalse(any(isinstance(node, ast.Try) for node in ast.walk(tree)), name)
+            for node in ast.walk(tree):
+                if isinstance(node, ast.Raise):
+                    self.assertIsInstance(node.exc, ast.Call, (name, node.lineno))
+
     def test_called_methods_are_known(self):
         methods, values = members(self.trees().values())
         for name, tree in self.trees().items():
